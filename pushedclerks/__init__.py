@@ -1,0 +1,1 @@
+"""Copies of a machine, pushed now and then, that vote."""

@@ -1,0 +1,121 @@
+"""Machines and words for the tests, and slow checks that follow the document's words alone."""
+
+from itertools import product
+from random import Random
+
+LAST = (((0, 1), (0, 1)), ((0, 0), (1, 1)))
+RING = (((1,), (0,)), ((0,), (1,)))
+CHAIN = (((0, 1), (0, 2), (0, 3), (0, 3)), ((0, 0), (0, 0), (0, 0), (0, 1)))
+SILENT = (((0, 1, 1), (1, 0, 0)), ((5, 5, 5), (5, 5, 5)))
+# State 2 cannot come, and just its first answer is another one.
+ASIDE = (((1,), (0,), (0,)), ((0,), (0,), (1,)))
+# States 2 and 3 cannot come, lead to each other for ever, and answer otherwise than state 0, which alone comes.
+APART = (((0, 0), (0, 0), (0, 3), (0, 2)), ((0, 0), (0, 0), (0, 0), (0, 1)))
+GREATEST = (
+    ((1, 2, 3), (2, 3, 4), (3, 4, 5), (4, 5, 0), (5, 0, 1), (0, 1, 2)),
+    ((0, 9, 1), (2, 9, 3), (4, 9, 5), (6, 9, 7), (8, 9, 0), (9, 0, 9)),
+)
+NAMED = (LAST, RING, CHAIN, SILENT, ASIDE, APART, GREATEST)
+
+# What is neither a machine, a state, a word, nor what late_word or never_forgets return.
+ODD = (
+    True, False, -1, 7, 10 ** 30, "", "a", "abc", "machine", [], [0], {}, {0: 0}, {"steps": ()},
+    [[0]], ((),), ((), ()), (None,), (None, None), ((((((),),),),),), (((0,),), ((0,),), ((0,),)),
+    ([], 0, []), ([], 0, [0], [0]), ("", 0, ""), ("", 0, "", ""), (None, 0, None), (None, 0, None, None),
+    ((), None, (), ()), ({}, 0, {}), ({}, {}, {}, {}), ((), (0,), ()), ((), (), (), ()),
+)
+
+
+def all_machines(states, letters, kinds):
+    """List all machines of so many states and letters, with answers below kinds."""
+    rows_of_steps = list(product(range(states), repeat=letters))
+    rows_of_answers = list(product(range(kinds), repeat=letters))
+    return [
+        (steps, told)
+        for steps in product(rows_of_steps, repeat=states)
+        for told in product(rows_of_answers, repeat=states)
+    ]
+
+
+def some_machines(seed, many, most_states=6, most_letters=3):
+    """List so many machines, the same for the same seed; many of them forget, and many have states alike."""
+    chance = Random(seed)
+    return [one_machine(chance, most_states, most_letters) for _ in range(many)]
+
+
+def one_machine(chance, most_states, most_letters):
+    states = chance.randint(1, most_states)
+    letters = chance.randint(1, most_letters)
+    like_chain, seldom = chance.random(), chance.choice((0.1, 0.3, 0.6))
+
+    def after(state):
+        if chance.random() < like_chain:
+            return chance.choice((0, min(state + 1, states - 1)))
+        return chance.randrange(states)
+
+    def answer():
+        return chance.randrange(1, 10) if chance.random() < seldom else 0
+
+    steps = tuple(tuple(after(state) for _ in range(letters)) for state in range(states))
+    return steps, tuple(tuple(answer() for _ in range(letters)) for _ in range(states))
+
+
+def small_machines():
+    """List all machines of 1 or 2 states and 1 or 2 letters, and of 3 states and 1 letter, with answers 0 and 1."""
+    found = []
+    for states, letters in ((1, 1), (1, 2), (2, 1), (2, 2), (3, 1)):
+        found.extend(all_machines(states, letters, 2))
+    return found
+
+
+def letters_of(machine):
+    return len(machine[0][0])
+
+
+def words(letters, longest):
+    """List all words of so many letters at most, the shortest first, otherwise in ascending sequence."""
+    return [word for length in range(longest + 1) for word in product(range(letters), repeat=length)]
+
+
+def lead(machine, state, word):
+    for letter in word:
+        state = machine[0][state][letter]
+    return state
+
+
+def last_answer(machine, state, word):
+    return machine[1][lead(machine, state, word[:-1])][word[-1]]
+
+
+def all_answers(machine, state, word):
+    return tuple(last_answer(machine, state, word[:end]) for end in range(1, len(word) + 1))
+
+
+def states_that_come(machine):
+    """A state that comes at all comes behind fewer letters than there are states."""
+    return sorted({lead(machine, 0, word) for word in words(letters_of(machine), len(machine[0]) - 1)})
+
+
+def is_late(machine, word):
+    """The words of point 3, a word being late."""
+    here = {last_answer(machine, state, word) for state in states_that_come(machine)}
+    anywhere = {last_answer(machine, state, word) for state in range(len(machine[0]))}
+    # Some of here and some of anywhere are unlike, unless both are one and the same answer.
+    return len(here | anywhere) > 1
+
+
+def late_lengths(machine, longest):
+    """List the lengths, of so many letters at most, of late words."""
+    letters = letters_of(machine)
+    return [
+        length for length in range(1, longest + 1)
+        if any(is_late(machine, word) for word in product(range(letters), repeat=length))
+    ]
+
+
+def slow_late(machine, longest):
+    """The greatest length of a late word, taking it for endless if one of just so many letters is late."""
+    lengths = late_lengths(machine, longest)
+    if longest in lengths:
+        return None
+    return max(lengths, default=0)
