@@ -1,11 +1,16 @@
-"""What may be passed as a machine, a state or a word, and the errors for what may not."""
+"""What may be passed as a machine, a state, a word, a number or strikes, and the errors for what may not."""
 
-from pushedclerks.errors import BadLetters, BadMachine, BadState
+from pushedclerks.errors import BadLetters, BadMachine, BadNumber, BadState, BadStrikes
 
 MOST_STATES = 6
 MOST_LETTERS = 3
 MOST_ANSWER = 9
 LONGEST_WORD = 4000
+MOST_COPIES = 99
+MOST_PUSHED = 9
+GREATEST_ROOM = 60
+MOST_STRIKES = 4000
+GREATEST_PLACE = 4000
 
 
 def is_integer(value, low, high):
@@ -74,3 +79,68 @@ def check_word(machine, word):
     """Raise BadLetters for a value that is no word of the machine, or too long a one."""
     if not is_short_word(machine, word):
         raise BadLetters()
+
+
+def check_number(value, low, high):
+    """Raise BadNumber for a value that is no integer from low to high."""
+    if not is_integer(value, low, high):
+        raise BadNumber()
+
+
+def check_copies(copies):
+    """Raise BadNumber for a value that is no number of copies."""
+    check_number(copies, 1, MOST_COPIES)
+
+
+def check_pushed(pushed):
+    """Raise BadNumber for a value that is no number of copies pushed in each strike."""
+    check_number(pushed, 0, MOST_PUSHED)
+
+
+def check_room(room):
+    """Raise BadNumber for a value that is no room between two strikes."""
+    check_number(room, 1, GREATEST_ROOM)
+
+
+def is_push(machine, copies, value):
+    """Tell whether a value is a pair of one of so many copies and a state."""
+    return is_tuple(value, 2, 2) and is_integer(value[0], 0, copies - 1) and is_state(machine, value[1])
+
+
+def are_pushes(machine, copies, value):
+    """Tell whether a value is the pushes of a strike on so many copies."""
+    # No copy stands there twice, so that there are no more pushes than copies.
+    if not is_tuple(value, 1, copies) or not all([is_push(machine, copies, push) for push in value]):
+        return False
+    return all([push[0] < after[0] for push, after in zip(value, value[1:])])
+
+
+def is_strike(machine, copies, value, least_place):
+    """Tell whether a value is a strike on so many copies, at the least place or a greater one."""
+    if not is_tuple(value, 2, 2) or not is_integer(value[0], least_place, GREATEST_PLACE):
+        return False
+    return are_pushes(machine, copies, value[1])
+
+
+def wrong_strike(machine, copies, rows):
+    """Give the index of the first thing that is no strike or can't stand there, None without one."""
+    least_place = 0
+    for index, row in enumerate(rows):
+        if not is_strike(machine, copies, row, least_place):
+            return index
+        least_place = row[0] + 1
+    return None
+
+
+def are_strikes(machine, copies, value):
+    """Tell whether a value is strikes on so many copies."""
+    return is_tuple(value, 0, MOST_STRIKES) and wrong_strike(machine, copies, value) is None
+
+
+def check_strikes(machine, copies, strikes):
+    """Raise BadStrikes for a value that is no strikes on so many copies."""
+    if not is_tuple(strikes, 0, MOST_STRIKES):
+        raise BadStrikes(None)
+    index = wrong_strike(machine, copies, strikes)
+    if index is not None:
+        raise BadStrikes(index)

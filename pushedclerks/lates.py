@@ -2,7 +2,7 @@
 
 from pushedclerks.checks import check_machine, is_short_word, is_state, is_tuple, is_word
 from pushedclerks.errors import Forgets
-from pushedclerks.machines import state_behind
+from pushedclerks.machines import last_answer, state_behind
 
 
 def ways_to_states(machine):
@@ -117,9 +117,7 @@ def late_word(machine):
 
 def answer_unlike(machine, one, other, word):
     """Tell whether unlike answers are given to the last letter of a word from two states."""
-    rest, letter = word[:-1], word[-1]
-    told = machine[1]
-    return told[state_behind(machine, one, rest)][letter] != told[state_behind(machine, other, rest)][letter]
+    return last_answer(machine, one, word) != last_answer(machine, other, word)
 
 
 def shows_late_word(machine, value):

@@ -10,6 +10,11 @@ def state_behind(machine, state, word):
     return state
 
 
+def last_answer(machine, state, word):
+    """Give the answer to the last letter of a word, not empty, from a state."""
+    return machine[1][state_behind(machine, state, word[:-1])][word[-1]]
+
+
 def answers(machine, state, word):
     """Give the tuple of the answers, letter by letter, to a word from a state."""
     check_machine(machine)

@@ -1,6 +1,6 @@
-"""Machines and words for the tests, and slow checks that follow the document's words alone."""
+"""Machines, words and strikes for the tests, and slow checks that follow the document's words alone."""
 
-from itertools import product
+from itertools import combinations, product
 from random import Random
 
 LAST = (((0, 1), (0, 1)), ((0, 0), (1, 1)))
@@ -15,7 +15,17 @@ GREATEST = (
     ((1, 2, 3), (2, 3, 4), (3, 4, 5), (4, 5, 0), (5, 0, 1), (0, 1, 2)),
     ((0, 9, 1), (2, 9, 3), (4, 9, 5), (6, 9, 7), (8, 9, 0), (9, 0, 9)),
 )
+# Six states in a row, each letter but the first leading back: it takes five letters to answer 1.
+LONGEST = (
+    ((1, 0), (2, 0), (3, 0), (4, 0), (5, 0), (5, 0)),
+    ((0, 0), (0, 0), (0, 0), (0, 0), (0, 0), (1, 0)),
+)
+# The states 0 and 1 come, and only state 2, which doesn't, can be led to unlike answers.
+ONLY_BY_ASIDE = (((1,), (1,), (3,), (1,)), ((0,), (0,), (0,), (7,)))
 NAMED = (LAST, RING, CHAIN, SILENT, ASIDE, APART, GREATEST)
+
+# What is no integer of the document, and integers that it allows nowhere.
+NO_NUMBERS = (True, False, None, "", "1", (), (1,), [], [1], {}, {1: 1}, -1, -2, 10 ** 30, -10 ** 30)
 
 # What is neither a machine, a state, a word, nor what late_word or never_forgets return.
 ODD = (
@@ -119,3 +129,105 @@ def slow_late(machine, longest):
     if longest in lengths:
         return None
     return max(lengths, default=0)
+
+
+def all_pushes(machine, copies, pushed):
+    """List all pushes, not empty, of so many copies at most, each into any state."""
+    found = []
+    for many in range(1, min(copies, pushed) + 1):
+        for chosen in combinations(range(copies), many):
+            for states in product(range(len(machine[0])), repeat=many):
+                found.append(tuple(zip(chosen, states)))
+    return found
+
+
+def all_strikes(machine, copies, pushed, room, places):
+    """List all strikes of so many pushed ones at most, at places below so many that differ by the room at least."""
+    pushes = all_pushes(machine, copies, pushed)
+    found = [()]
+    for place in range(places):
+        # Those listed until here end ahead of this place.
+        found += [
+            strikes + ((place, row),) for strikes in found for row in pushes
+            if not strikes or place - strikes[-1][0] >= room
+        ]
+    return found
+
+
+def some_strikes(chance, machine, copies, places):
+    """Give strikes at some of so many places, each of some copies, into any states."""
+    found = []
+    often = chance.random()
+    for place in range(places):
+        if chance.random() < often:
+            chosen = sorted(chance.sample(range(copies), chance.randint(1, copies)))
+            found.append((place, tuple((copy, chance.randrange(len(machine[0]))) for copy in chosen)))
+    return tuple(found)
+
+
+def slow_state(machine, word, strikes, copy, place):
+    """The state of a copy ahead of the letter at a place, a strike there being done: it goes by its last push."""
+    state, since = 0, 0
+    for at, pushes in strikes:
+        if at <= place and copy in dict(pushes):
+            state, since = dict(pushes)[copy], at
+    return lead(machine, state, word[since:place])
+
+
+def slow_letter(machine, copies, word, strikes, place):
+    """The words of point 7, for the letter at a place: (right answer, the copies' answers, vote)."""
+    letter = word[place]
+    given = tuple(
+        machine[1][slow_state(machine, word, strikes, copy, place)][letter] for copy in range(copies))
+    votes = [answer for answer in range(10) if 2 * len([other for other in given if other == answer]) > copies]
+    return last_answer(machine, 0, word[:place + 1]), given, votes[0] if votes else None
+
+
+def slow_course(machine, copies, word, strikes):
+    return tuple(slow_letter(machine, copies, word, strikes, place) for place in range(len(word)))
+
+
+def is_story(machine, copies, pushed, room, word, strikes):
+    """The words of point 8, for a word and strikes that are such."""
+    if not 1 <= len(word) <= 4000 or any(len(pushes) > pushed for _, pushes in strikes):
+        return False
+    if any(after[0] - strike[0] < room for strike, after in zip(strikes, strikes[1:])):
+        return False
+    right, _, vote = slow_letter(machine, copies, word, strikes, len(word) - 1)
+    return vote != right
+
+
+def states_struck(machine, states, pushed):
+    """All that so many pushes at most make of the copies' states; which copy is in which is all one."""
+    found = {states}
+    for _ in range(min(pushed, len(states))):
+        found |= {
+            tuple(sorted(row[:copy] + (into,) + row[copy + 1:]))
+            for row in found for copy in range(len(row)) for into in range(len(machine[0]))
+        }
+    return found
+
+
+def slow_enough(machine, copies, pushed, room):
+    """The words of point 5: go through all to which words and strikes of any length can lead.
+
+    That is the state of a copy that never was pushed, those of the copies, and how many letters there must be
+    until the next strike.
+    """
+    begun = (0, (0,) * copies, 0)
+    seen, waiting = {begun}, [begun]
+    while waiting:
+        right, states, wait = waiting.pop()
+        choices = [(states, max(wait - 1, 0))]
+        if wait == 0:
+            choices += [(struck, room - 1) for struck in states_struck(machine, states, pushed)]
+        for (struck, after), letter in product(choices, range(letters_of(machine))):
+            alike = [state for state in struck if machine[1][state][letter] == machine[1][right][letter]]
+            if 2 * len(alike) <= copies:
+                return False
+            led = tuple(sorted(machine[0][state][letter] for state in struck))
+            come = (machine[0][right][letter], led, after)
+            if come not in seen:
+                seen.add(come)
+                waiting.append(come)
+    return True

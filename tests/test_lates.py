@@ -5,17 +5,9 @@ import unittest
 from pushedclerks.errors import Forgets
 from pushedclerks.lates import forgets, late, late_word, never_forgets, shows_late_word, shows_never_forgets
 from tests.small import (
-    APART, ASIDE, CHAIN, GREATEST, LAST, NAMED, RING, SILENT, all_machines, is_late, last_answer, late_lengths, lead,
-    letters_of, slow_late, small_machines, some_machines,
+    APART, ASIDE, CHAIN, GREATEST, LAST, LONGEST, NAMED, ONLY_BY_ASIDE, RING, SILENT, all_machines, is_late,
+    last_answer, late_lengths, lead, letters_of, slow_late, small_machines, some_machines,
 )
-
-# Six states in a row, each letter but the first leading back: it takes five letters to answer 1.
-LONGEST = (
-    ((1, 0), (2, 0), (3, 0), (4, 0), (5, 0), (5, 0)),
-    ((0, 0), (0, 0), (0, 0), (0, 0), (0, 0), (1, 0)),
-)
-# The states 0 and 1 come, and only state 2, which doesn't, can be led to unlike answers.
-ONLY_BY_ASIDE = (((1,), (1,), (3,), (1,)), ((0,), (0,), (0,), (7,)))
 
 
 class Numbers(unittest.TestCase):

@@ -2,9 +2,12 @@
 
 import unittest
 
+from pushedclerks.clerks import are_enough, copies_needed, fewest_of_all, least_room, most_pushed
+from pushedclerks.courses import course, shows_story, story, wrong_votes
 from pushedclerks.errors import BadLetters, BadMachine, BadState
 from pushedclerks.lates import forgets, late, late_word, never_forgets, shows_late_word, shows_never_forgets
 from pushedclerks.machines import answers, least_machine
+from pushedclerks.windows import window, window_answer, window_table
 from tests.small import GREATEST, LAST, NAMED, ODD, RING, all_answers, some_machines, words
 
 # All that takes a machine, called with it and with other arguments that are allowed.
@@ -17,6 +20,18 @@ CALLS = {
     "shows_late_word": lambda machine: shows_late_word(machine, None),
     "never_forgets": never_forgets,
     "shows_never_forgets": lambda machine: shows_never_forgets(machine, ((), 1, (0, 0), (0,))),
+    "window": window,
+    "window_answer": lambda machine: window_answer(machine, (0,) * 6),
+    "window_table": window_table,
+    "copies_needed": lambda machine: copies_needed(machine, 0, 1),
+    "are_enough": lambda machine: are_enough(machine, 1, 0, 1),
+    "most_pushed": lambda machine: most_pushed(machine, 1, 1),
+    "least_room": lambda machine: least_room(machine, 1, 0),
+    "fewest_of_all": lambda machine: fewest_of_all(machine, 0, 1),
+    "course": lambda machine: course(machine, 1, (), ()),
+    "wrong_votes": lambda machine: wrong_votes(machine, 1, (), ()),
+    "story": lambda machine: story(machine, 1, 0, 1),
+    "shows_story": lambda machine: shows_story(machine, 1, 0, 1, None),
 }
 
 

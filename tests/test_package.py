@@ -7,11 +7,16 @@ from pathlib import Path
 import unittest
 
 import pushedclerks
-from pushedclerks import lates, machines
-from pushedclerks.errors import BadLetters, BadMachine, BadState, ClerkError, Forgets
+from pushedclerks import clerks, courses, lates, machines, windows
+from pushedclerks.clerks import are_enough, copies_needed, fewest_of_all, least_room, most_pushed
+from pushedclerks.courses import course, shows_story, story, wrong_votes
+from pushedclerks.errors import (
+    BadLetters, BadMachine, BadNumber, BadState, BadStrikes, ClerkError, Forgets, Remembers,
+)
 from pushedclerks.lates import forgets, late, late_word, never_forgets, shows_late_word, shows_never_forgets
 from pushedclerks.machines import answers, least_machine
-from tests.small import LAST, NAMED, ODD, RING, some_machines
+from pushedclerks.windows import window, window_answer, window_table
+from tests.small import CHAIN, LAST, NAMED, ODD, RING, some_machines
 
 FOLDER = Path(pushedclerks.__file__).parent
 LIBRARY = {"heapq", "math", "itertools", "collections"}
@@ -25,9 +30,32 @@ INTERFACE = {
         "never_forgets": ["machine"],
         "shows_never_forgets": ["machine", "value"],
     },
+    windows: {
+        "window": ["machine"],
+        "window_answer": ["machine", "word"],
+        "window_table": ["machine"],
+    },
+    clerks: {
+        "copies_needed": ["machine", "pushed", "room"],
+        "are_enough": ["machine", "copies", "pushed", "room"],
+        "most_pushed": ["machine", "copies", "room"],
+        "least_room": ["machine", "copies", "pushed"],
+        "fewest_of_all": ["machine", "pushed", "room"],
+    },
+    courses: {
+        "course": ["machine", "copies", "word", "strikes"],
+        "wrong_votes": ["machine", "copies", "word", "strikes"],
+        "story": ["machine", "copies", "pushed", "room"],
+        "shows_story": ["machine", "copies", "pushed", "room", "value"],
+    },
 }
-OF_A_MACHINE = (least_machine, late, forgets, late_word, never_forgets)
+OF_A_MACHINE = (least_machine, late, forgets, late_word, never_forgets, window, window_table)
 SHOWS = (shows_late_word, shows_never_forgets)
+# Strikes, right and wrong ones, a list in the place of each of their tuples.
+STRIKES = (
+    ((0, ((0, 1),)),), ((0, ((0, 1), (0, 1))),),
+    [[0, [[0, 1]]]], ([0, ((0, 1),)],), ((0, [(0, 1)]),), ((0, ([0, 1],)),),
+)
 
 
 def outcome(call, *values):
@@ -50,6 +78,11 @@ class Interface(unittest.TestCase):
     def test_arguments_by_name(self):
         self.assertEqual((1, 0), answers(word=(0, 1), state=1, machine=LAST))
         self.assertIs(True, shows_late_word(value=((), 1, (0,)), machine=LAST))
+        self.assertEqual(1, window_answer(word=(1, 0), machine=LAST))
+        self.assertEqual(5, copies_needed(room=2, pushed=1, machine=CHAIN))
+        self.assertEqual(2, least_room(pushed=1, copies=5, machine=CHAIN))
+        self.assertEqual((0,), wrong_votes(strikes=((0, ((0, 1),)),), word=(0, 0), copies=1, machine=LAST))
+        self.assertIs(True, shows_story(value=None, room=1, pushed=1, copies=3, machine=LAST))
 
 
 class Errors(unittest.TestCase):
@@ -62,6 +95,39 @@ class Errors(unittest.TestCase):
         self.assertEqual((BadState, {}), outcome(answers, LAST, True, [0]))
         self.assertEqual((BadState, {}), outcome(answers, LAST, -1, (0,) * 4001))
         self.assertEqual((BadLetters, {}), outcome(answers, LAST, 1, (0,) * 4001))
+
+    def test_the_leftmost_argument_first_in_windows(self):
+        self.assertEqual((BadMachine, {"part": "machine"}), outcome(window_answer, (), ()))
+        self.assertEqual((BadMachine, {"part": "answers"}), outcome(window_answer, (rows_of(1), ((10,),)), (9,)))
+
+    def test_the_leftmost_argument_first_in_clerks(self):
+        for call in (copies_needed, most_pushed, least_room, fewest_of_all):
+            self.assertEqual((BadMachine, {"part": "steps"}), outcome(call, (rows_of(7), rows_of(7)), -1, 99))
+            self.assertEqual((BadMachine, {"part": "machine"}), outcome(call, None, None, None))
+            self.assertEqual((BadNumber, {}), outcome(call, LAST, -1, 99))
+        self.assertEqual((BadMachine, {"part": "machine"}), outcome(are_enough, LAST[:1], 0, -1, 0))
+
+    def test_the_leftmost_argument_first_in_courses(self):
+        for call in (course, wrong_votes):
+            self.assertEqual((BadMachine, {"part": "machine"}), outcome(call, None, 0, (9,), None))
+            self.assertEqual((BadNumber, {}), outcome(call, LAST, 0, (9,), None))
+            self.assertEqual((BadNumber, {}), outcome(call, LAST, True, (0,), ((0, ()),)))
+            self.assertEqual((BadLetters, {}), outcome(call, LAST, 1, (9,), None))
+            self.assertEqual((BadLetters, {}), outcome(call, LAST, 1, (0,) * 4001, ((0, ()),)))
+            self.assertEqual((BadStrikes, {"index": None}), outcome(call, LAST, 1, (0,), None))
+            self.assertEqual((BadStrikes, {"index": 0}), outcome(call, LAST, 1, (0,), ((0, ()), (0, ()))))
+        self.assertEqual((BadMachine, {"part": "machine"}), outcome(story, None, 0, -1, 0))
+        self.assertEqual((BadMachine, {"part": "machine"}), outcome(shows_story, None, 0, -1, 0, 0))
+        self.assertEqual((BadNumber, {}), outcome(story, LAST, 0, -1, 0))
+        self.assertEqual((BadNumber, {}), outcome(shows_story, LAST, 0, -1, 0, 0))
+
+    def test_remembers_behind_the_errors_of_the_arguments(self):
+        self.assertEqual((Remembers, {}), outcome(window_table, RING))
+        self.assertEqual((BadMachine, {"part": "answers"}), outcome(window_table, (RING[0], ((0,), (10,)))))
+        self.assertEqual((BadMachine, {"part": "answers"}), outcome(window_answer, (RING[0], ((0,), (10,))), (0,)))
+        self.assertEqual((Remembers, {}), outcome(window_answer, RING, (0,)))
+        for word in ((), (1,), None, [0], (0,) * 4001):
+            self.assertEqual((BadLetters, {}), outcome(window_answer, RING, word))
 
     def test_of_one_argument_the_first_named(self):
         self.assertEqual((BadMachine, {"part": "machine"}), outcome(late, (rows_of(7), ((10,),), 0)))
@@ -90,6 +156,24 @@ class Arguments(unittest.TestCase):
                     yield shows, (machine, value)
                 yield answers, (machine, value, value)
                 yield answers, (machine, 0, value)
+                yield from self.later_calls(machine, value)
+            for strikes in STRIKES:
+                yield from self.later_calls(machine, strikes)
+                yield shows_story, (machine, 2, 1, 1, ((0,), strikes))
+                yield shows_story, (machine, 2, 1, 1, [[0], strikes])
+
+    def later_calls(self, machine, value):
+        yield window_answer, (machine, value)
+        for call in (copies_needed, most_pushed, least_room, fewest_of_all):
+            yield call, (machine, value, 1)
+            yield call, (machine, 1, value)
+        for call in (are_enough, story):
+            yield call, (machine, 2, 1, value)
+        for call in (course, wrong_votes):
+            yield call, (machine, 2, (0, 0), value)
+            yield call, (machine, 2, value, ((1, ((0, 0),)),))
+        yield shows_story, (machine, 2, 1, 1, value)
+        yield shows_story, (machine, 3, 1, 1, value)
 
     def test_they_are_not_modified(self):
         for call, values in self.calls():
@@ -106,12 +190,17 @@ class Arguments(unittest.TestCase):
         first = [outcome(call, machine) for machine in many for call in OF_A_MACHINE]
         last = [outcome(call, machine) for machine in reversed(many) for call in reversed(OF_A_MACHINE)]
         self.assertEqual(first, last[::-1])
+        first = [outcome(story, machine, 4, 1, room) for machine in many for room in (1, 2, 3)]
+        last = [outcome(story, machine, 4, 1, room) for machine in reversed(many) for room in (3, 2, 1)]
+        self.assertEqual(first, last[::-1])
 
     def test_only_true_and_false_are_shown(self):
         for machine in NAMED:
             for value in ODD + (None, ((), 1, (0,)), ((), 1, (0, 0), (0,)), ((), 1, (), ()), ((), 1, ())):
                 for shows in SHOWS:
                     self.assertIs(bool, type(shows(machine, value)))
+                for copies in (2, 3):
+                    self.assertIs(bool, type(shows_story(machine, copies, 1, 1, value)))
 
 
 class Files(unittest.TestCase):
