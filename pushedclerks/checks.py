@@ -1,4 +1,4 @@
-"""What may be passed as a machine, a state, a word, a number or strikes, and the errors for what may not."""
+"""What may be passed as a machine, a state, a letter, a word, a number or strikes, and the errors for what may not."""
 
 from pushedclerks.errors import BadLetters, BadMachine, BadNumber, BadState, BadStrikes
 
@@ -63,6 +63,17 @@ def check_state(machine, state):
     """Raise BadState for a value that is no state of the machine."""
     if not is_state(machine, state):
         raise BadState()
+
+
+def is_letter(machine, value):
+    """Tell whether a value is a letter of the machine."""
+    return is_integer(value, 0, len(machine[0][0]) - 1)
+
+
+def check_letter(machine, letter):
+    """Raise BadLetters for a value that is no letter of the machine."""
+    if not is_letter(machine, letter):
+        raise BadLetters()
 
 
 def is_word(machine, value):

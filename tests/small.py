@@ -231,3 +231,57 @@ def slow_enough(machine, copies, pushed, room):
                 seen.add(come)
                 waiting.append(come)
     return True
+
+
+def slow_states(machine, copies, events):
+    """The words of point 9: the state of each copy behind pushes (copy, state) and letters (letter,).
+
+    A copy's state goes by its last push and the letters behind it alone.
+    """
+    found = []
+    for copy in range(copies):
+        state = 0
+        for event in events:
+            if len(event) == 1:
+                state = machine[0][state][event[0]]
+            elif event[0] == copy:
+                state = event[1]
+        found.append(state)
+    return tuple(found)
+
+
+def letters_read(events):
+    return tuple(event[0] for event in events if len(event) == 1)
+
+
+def slow_astray(machine, copies, events):
+    right = lead(machine, 0, letters_read(events))
+    states = slow_states(machine, copies, events)
+    return tuple(copy for copy in range(copies) if states[copy] != right)
+
+
+def slow_vote(machine, copies, events):
+    """The vote at the last event, a letter."""
+    letter = events[-1][0]
+    given = [machine[1][state][letter] for state in slow_states(machine, copies, events[:-1])]
+    votes = [answer for answer in set(given) if 2 * given.count(answer) > copies]
+    return votes[0] if votes else None
+
+
+def slow_misses(machine, copies, events):
+    """At how many letters the vote wasn't the right answer."""
+    ends = [end for end in range(1, len(events) + 1) if len(events[end - 1]) == 1]
+    return sum(
+        slow_vote(machine, copies, events[:end]) != last_answer(machine, 0, letters_read(events[:end])) for end in ends)
+
+
+def some_events(chance, machine, copies, many):
+    """Give so many pushes and letters, some of the pushes of one copy one behind the other."""
+    often = chance.random()
+    found = []
+    for _ in range(many):
+        if chance.random() < often:
+            found.append((chance.randrange(copies), chance.randrange(len(machine[0]))))
+        else:
+            found.append((chance.randrange(letters_of(machine)),))
+    return found

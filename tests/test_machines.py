@@ -2,11 +2,14 @@
 
 import unittest
 
+from pushedclerks.benches import Bench
 from pushedclerks.clerks import are_enough, copies_needed, fewest_of_all, least_room, most_pushed
 from pushedclerks.courses import course, shows_story, story, wrong_votes
 from pushedclerks.errors import BadLetters, BadMachine, BadState
 from pushedclerks.lates import forgets, late, late_word, never_forgets, shows_late_word, shows_never_forgets
 from pushedclerks.machines import answers, least_machine
+from pushedclerks.tales import tale
+from pushedclerks.texts import machine_text, read_strikes, read_word, strikes_text, word_text
 from pushedclerks.windows import window, window_answer, window_table
 from tests.small import GREATEST, LAST, NAMED, ODD, RING, all_answers, some_machines, words
 
@@ -32,6 +35,13 @@ CALLS = {
     "wrong_votes": lambda machine: wrong_votes(machine, 1, (), ()),
     "story": lambda machine: story(machine, 1, 0, 1),
     "shows_story": lambda machine: shows_story(machine, 1, 0, 1, None),
+    "Bench": lambda machine: Bench(machine, 1),
+    "machine_text": machine_text,
+    "word_text": lambda machine: word_text(machine, ()),
+    "strikes_text": lambda machine: strikes_text(machine, 1, ()),
+    "read_word": lambda machine: read_word(machine, ""),
+    "read_strikes": lambda machine: read_strikes(machine, 1, ""),
+    "tale": lambda machine: tale(machine, 1, (), ()),
 }
 
 

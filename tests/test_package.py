@@ -7,14 +7,17 @@ from pathlib import Path
 import unittest
 
 import pushedclerks
-from pushedclerks import clerks, courses, lates, machines, windows
+from pushedclerks import benches, clerks, courses, lates, machines, tales, texts, windows
+from pushedclerks.benches import Bench
 from pushedclerks.clerks import are_enough, copies_needed, fewest_of_all, least_room, most_pushed
 from pushedclerks.courses import course, shows_story, story, wrong_votes
 from pushedclerks.errors import (
-    BadLetters, BadMachine, BadNumber, BadState, BadStrikes, ClerkError, Forgets, Remembers,
+    BadLetters, BadLine, BadMachine, BadNumber, BadState, BadStep, BadStrikes, BadText, ClerkError, Forgets, Remembers,
 )
 from pushedclerks.lates import forgets, late, late_word, never_forgets, shows_late_word, shows_never_forgets
 from pushedclerks.machines import answers, least_machine
+from pushedclerks.tales import tale
+from pushedclerks.texts import machine_text, read_machine, read_strikes, read_word, strikes_text, word_text
 from pushedclerks.windows import window, window_answer, window_table
 from tests.small import CHAIN, LAST, NAMED, ODD, RING, some_machines
 
@@ -48,8 +51,30 @@ INTERFACE = {
         "story": ["machine", "copies", "pushed", "room"],
         "shows_story": ["machine", "copies", "pushed", "room", "value"],
     },
+    benches: {"Bench": ["machine", "copies"]},
+    texts: {
+        "machine_text": ["machine"],
+        "word_text": ["machine", "word"],
+        "strikes_text": ["machine", "copies", "strikes"],
+        "read_machine": ["text"],
+        "read_word": ["machine", "text"],
+        "read_strikes": ["machine", "copies", "text"],
+    },
+    tales: {"tale": ["machine", "copies", "word", "strikes"]},
 }
-OF_A_MACHINE = (least_machine, late, forgets, late_word, never_forgets, window, window_table)
+# The methods of the classes, and their properties, without parameters here.
+METHODS = {
+    Bench: {
+        "push": ["self", "copy", "state"],
+        "read": ["self", "letter"],
+        "states": None,
+        "astray": None,
+        "misses": None,
+    },
+}
+OF_A_MACHINE = (least_machine, late, forgets, late_word, never_forgets, window, window_table, machine_text)
+# The text of LAST, that of two strikes, and such of which some line is wrong.
+TEXTS = ("0/0 1/0\n0/1 1/1\n", "0: 0>1\n1: 1>0\n", "0/0\n2/0\n", "", "\n", "0/0", "x\n", "aab", "ac", "b" * 4001)
 SHOWS = (shows_late_word, shows_never_forgets)
 # Strikes, right and wrong ones, a list in the place of each of their tuples.
 STRIKES = (
@@ -66,6 +91,13 @@ def outcome(call, *values):
         return type(error), vars(error)
 
 
+def at_work(machine, copies, copy, state, letter):
+    """Give all that a bench tells behind a letter, a push and the letter once more."""
+    bench = Bench(machine, copies)
+    votes = (bench.read(letter), bench.push(copy, state), bench.read(letter))
+    return votes, bench.states, bench.astray, bench.misses
+
+
 class Interface(unittest.TestCase):
     def test_names_and_arguments(self):
         for module, names in INTERFACE.items():
@@ -75,6 +107,17 @@ class Interface(unittest.TestCase):
                     self.assertEqual(module.__name__, found.__module__)
                     self.assertEqual(parameters, list(inspect.signature(found).parameters))
 
+    def test_methods(self):
+        for kind, names in METHODS.items():
+            for name, parameters in names.items():
+                with self.subTest(kind=kind, name=name):
+                    # In the class itself, not in one above it.
+                    found = vars(kind)[name]
+                    if parameters is None:
+                        self.assertIsInstance(found, property)
+                    else:
+                        self.assertEqual(parameters, list(inspect.signature(found).parameters))
+
     def test_arguments_by_name(self):
         self.assertEqual((1, 0), answers(word=(0, 1), state=1, machine=LAST))
         self.assertIs(True, shows_late_word(value=((), 1, (0,)), machine=LAST))
@@ -83,6 +126,13 @@ class Interface(unittest.TestCase):
         self.assertEqual(2, least_room(pushed=1, copies=5, machine=CHAIN))
         self.assertEqual((0,), wrong_votes(strikes=((0, ((0, 1),)),), word=(0, 0), copies=1, machine=LAST))
         self.assertIs(True, shows_story(value=None, room=1, pushed=1, copies=3, machine=LAST))
+        bench = Bench(copies=1, machine=LAST)
+        self.assertEqual((None, 1), (bench.push(state=1, copy=0), bench.read(letter=0)))
+        self.assertEqual("ab", word_text(word=(0, 1), machine=LAST))
+        self.assertEqual("0: 0>1\n", strikes_text(strikes=((0, ((0, 1),)),), copies=1, machine=LAST))
+        self.assertEqual((RING, (1,)), (read_machine(text="1/0\n0/1\n"), read_word(text="b", machine=LAST)))
+        self.assertEqual(((0, ((0, 1),)),), read_strikes(text="0: 0>1\n", copies=1, machine=LAST))
+        self.assertEqual("misses 0\n", tale(strikes=(), word=(), copies=1, machine=LAST))
 
 
 class Errors(unittest.TestCase):
@@ -108,7 +158,7 @@ class Errors(unittest.TestCase):
         self.assertEqual((BadMachine, {"part": "machine"}), outcome(are_enough, LAST[:1], 0, -1, 0))
 
     def test_the_leftmost_argument_first_in_courses(self):
-        for call in (course, wrong_votes):
+        for call in (course, wrong_votes, tale):
             self.assertEqual((BadMachine, {"part": "machine"}), outcome(call, None, 0, (9,), None))
             self.assertEqual((BadNumber, {}), outcome(call, LAST, 0, (9,), None))
             self.assertEqual((BadNumber, {}), outcome(call, LAST, True, (0,), ((0, ()),)))
@@ -120,6 +170,30 @@ class Errors(unittest.TestCase):
         self.assertEqual((BadMachine, {"part": "machine"}), outcome(shows_story, None, 0, -1, 0, 0))
         self.assertEqual((BadNumber, {}), outcome(story, LAST, 0, -1, 0))
         self.assertEqual((BadNumber, {}), outcome(shows_story, LAST, 0, -1, 0, 0))
+
+    def test_the_leftmost_argument_first_in_benches(self):
+        self.assertEqual((BadMachine, {"part": "machine"}), outcome(Bench, None, 0))
+        self.assertEqual((BadMachine, {"part": "answers"}), outcome(Bench, (rows_of(1), ((10,),)), True))
+        bench = Bench(RING, 2)
+        self.assertEqual((BadNumber, {}), outcome(bench.push, 2, 2))
+        self.assertEqual((BadState, {}), outcome(bench.push, 1, 2))
+        for _ in range(4000):
+            bench.read(0)
+        self.assertEqual((BadLetters, {}), outcome(bench.read, 1))
+        self.assertEqual((BadStep, {}), outcome(bench.read, 0))
+
+    def test_the_leftmost_argument_first_in_texts(self):
+        for call in (word_text, read_word):
+            self.assertEqual((BadMachine, {"part": "steps"}), outcome(call, (rows_of(7), rows_of(7)), None))
+        self.assertEqual((BadMachine, {"part": "answers"}), outcome(machine_text, (rows_of(1), ((10,),))))
+        self.assertEqual((BadText, {"place": 0}), outcome(read_word, LAST, None))
+        self.assertEqual((BadLetters, {}), outcome(word_text, LAST, None))
+        for call in (strikes_text, read_strikes):
+            self.assertEqual((BadMachine, {"part": "machine"}), outcome(call, None, 0, None))
+            self.assertEqual((BadNumber, {}), outcome(call, LAST, 0, None))
+        self.assertEqual((BadLine, {"line": 0}), outcome(read_strikes, LAST, 1, None))
+        self.assertEqual((BadLine, {"line": 0}), outcome(read_machine, None))
+        self.assertEqual((BadStrikes, {"index": None}), outcome(strikes_text, LAST, 1, None))
 
     def test_remembers_behind_the_errors_of_the_arguments(self):
         self.assertEqual((Remembers, {}), outcome(window_table, RING))
@@ -157,6 +231,8 @@ class Arguments(unittest.TestCase):
                 yield answers, (machine, value, value)
                 yield answers, (machine, 0, value)
                 yield from self.later_calls(machine, value)
+            for text in TEXTS:
+                yield from self.later_calls(machine, text)
             for strikes in STRIKES:
                 yield from self.later_calls(machine, strikes)
                 yield shows_story, (machine, 2, 1, 1, ((0,), strikes))
@@ -169,7 +245,17 @@ class Arguments(unittest.TestCase):
             yield call, (machine, 1, value)
         for call in (are_enough, story):
             yield call, (machine, 2, 1, value)
-        for call in (course, wrong_votes):
+        yield at_work, (machine, value, 0, 0, 0)
+        yield at_work, (machine, 2, value, 1, 0)
+        yield at_work, (machine, 2, 1, value, 0)
+        yield at_work, (machine, 2, 1, 1, value)
+        yield read_machine, (value,)
+        for call in (word_text, read_word):
+            yield call, (machine, value)
+        for call in (strikes_text, read_strikes):
+            yield call, (machine, value, ())
+            yield call, (machine, 2, value)
+        for call in (course, wrong_votes, tale):
             yield call, (machine, 2, (0, 0), value)
             yield call, (machine, 2, value, ((1, ((0, 0),)),))
         yield shows_story, (machine, 2, 1, 1, value)
