@@ -17,29 +17,43 @@ def vote_of(given):
     return None
 
 
-def letters_told(machine, copies, word, strikes):
-    """List, letter by letter, triples (right answer, tuple of the copies' answers, vote)."""
-    steps, told = machine
+def states_reading(machine, copies, word, strikes):
+    """List, letter by letter, the state in which a copy that never was pushed reads it, and those of the copies."""
+    steps = machine[0]
     struck = {place: pushes for place, pushes in strikes}
     right = 0
     states = [0] * copies
-    triples = []
+    found = []
     for place, letter in enumerate(word):
         for copy, into in struck.get(place, ()):
             states[copy] = into
-        given = tuple([told[state][letter] for state in states])
-        triples.append((told[right][letter], given, vote_of(given)))
+        found.append((right, states))
         right = steps[right][letter]
         states = [steps[state][letter] for state in states]
+    return found
+
+
+def letters_told(machine, copies, word, strikes):
+    """List, letter by letter, triples (right answer, tuple of the copies' answers, vote)."""
+    told = machine[1]
+    triples = []
+    for letter, (right, states) in zip(word, states_reading(machine, copies, word, strikes)):
+        given = tuple([told[state][letter] for state in states])
+        triples.append((told[right][letter], given, vote_of(given)))
     return triples
 
 
-def course(machine, copies, word, strikes):
-    """Give the tuple, letter by letter, of triples (right answer, tuple of the copies' answers, vote)."""
+def check_course(machine, copies, word, strikes):
+    """Raise the error of the first argument that a course can't have."""
     check_machine(machine)
     check_copies(copies)
     check_word(machine, word)
     check_strikes(machine, copies, strikes)
+
+
+def course(machine, copies, word, strikes):
+    """Give the tuple, letter by letter, of triples (right answer, tuple of the copies' answers, vote)."""
+    check_course(machine, copies, word, strikes)
     return tuple(letters_told(machine, copies, word, strikes))
 
 
@@ -57,23 +71,29 @@ def long_late_word(machine, length):
     return way, state, again * rounded_up(length, len(again)) + last
 
 
-def story(machine, copies, pushed, room):
-    """Give (word, strikes), by which the vote at the last letter isn't the right answer, None if there is none."""
-    if are_enough(machine, copies, pushed, room):
-        return None
-    # The right answer has no vote as soon as half of the copies give another one.
-    wrong = rounded_up(copies, 2)
-    many = rounded_up(wrong, pushed)
-    # Where the machine forgets, its longest late word has room for so many strikes, or the copies were enough.
+def story_of(machine, wrong, pushed, room):
+    """Give (word, strikes), by which the copies listed, and they alone, answer the last letter wrong.
+
+    There must be a late word with room for as many strikes as it takes to push them all.
+    """
+    many = rounded_up(len(wrong), pushed)
     way, state, word = long_late_word(machine, (many - 1) * room + 1)
     strikes = []
     for back in range(many):
         place = len(word) - 1 - back * room
         into = state_behind(machine, state, word[:place])
-        first = back * pushed
-        pushes = tuple([(copy, into) for copy in range(first, min(first + pushed, wrong))])
-        strikes.append((len(way) + place, pushes))
+        chosen = sorted(wrong[back * pushed:(back + 1) * pushed])
+        strikes.append((len(way) + place, tuple([(copy, into) for copy in chosen])))
     return way + word, tuple(strikes[::-1])
+
+
+def story(machine, copies, pushed, room):
+    """Give (word, strikes), by which the vote at the last letter isn't the right answer, None if there is none."""
+    if are_enough(machine, copies, pushed, room):
+        return None
+    # The right answer has no vote as soon as half of the copies give another one, and as the copies aren't enough,
+    # there is room for pushing so many.
+    return story_of(machine, list(range(rounded_up(copies, 2))), pushed, room)
 
 
 def are_seldom(strikes, pushed, room):
@@ -83,16 +103,27 @@ def are_seldom(strikes, pushed, room):
     return all([after[0] - strike[0] >= room for strike, after in zip(strikes, strikes[1:])])
 
 
+def is_told(machine, copies, pushed, room, value):
+    """Tell whether a value is (word, strikes), a word and seldom strikes that a story may have."""
+    if not is_tuple(value, 2, 2):
+        return False
+    word, strikes = value
+    if not is_short_word(machine, word) or not word:
+        return False
+    return are_strikes(machine, copies, strikes) and are_seldom(strikes, pushed, room)
+
+
+def last_told(machine, copies, value):
+    """Give (right answer, tuple of the copies' answers, vote) at the last letter of (word, strikes)."""
+    word, strikes = value
+    return letters_told(machine, copies, word, strikes)[-1]
+
+
 def shows_story(machine, copies, pushed, room, value):
     """Tell whether a value is what story may return."""
     if are_enough(machine, copies, pushed, room):
         return value is None
-    if not is_tuple(value, 2, 2):
+    if not is_told(machine, copies, pushed, room, value):
         return False
-    word, strikes = value
-    if not word or not is_short_word(machine, word):
-        return False
-    if not are_strikes(machine, copies, strikes) or not are_seldom(strikes, pushed, room):
-        return False
-    right, _, vote = letters_told(machine, copies, word, strikes)[-1]
+    right, _, vote = last_told(machine, copies, value)
     return vote != right

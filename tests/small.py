@@ -3,6 +3,8 @@
 from itertools import combinations, product
 from random import Random
 
+from pushedclerks.errors import ClerkError
+
 LAST = (((0, 1), (0, 1)), ((0, 0), (1, 1)))
 RING = (((1,), (0,)), ((0,), (1,)))
 CHAIN = (((0, 1), (0, 2), (0, 3), (0, 3)), ((0, 0), (0, 0), (0, 0), (0, 1)))
@@ -34,6 +36,14 @@ ODD = (
     ([], 0, []), ([], 0, [0], [0]), ("", 0, ""), ("", 0, "", ""), (None, 0, None), (None, 0, None, None),
     ((), None, (), ()), ({}, 0, {}), ({}, {}, {}, {}), ((), (0,), ()), ((), (), (), ()),
 )
+
+
+def outcome(call, *values):
+    """Give what a call returns, or the kind and the fields of the error that it raises."""
+    try:
+        return "returned", call(*values)
+    except ClerkError as error:
+        return type(error), vars(error)
 
 
 def all_machines(states, letters, kinds):

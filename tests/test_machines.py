@@ -3,13 +3,17 @@
 import unittest
 
 from pushedclerks.benches import Bench
+from pushedclerks.chances import mean_misses, right_chances
+from pushedclerks.clears import cleared_by, clearing_word, clears, parted_pair, shows_parted_pair
 from pushedclerks.clerks import are_enough, copies_needed, fewest_of_all, least_room, most_pushed
 from pushedclerks.courses import course, shows_story, story, wrong_votes
+from pushedclerks.desks import Desk
 from pushedclerks.errors import BadLetters, BadMachine, BadState
 from pushedclerks.lates import forgets, late, late_word, never_forgets, shows_late_word, shows_never_forgets
 from pushedclerks.machines import answers, least_machine
 from pushedclerks.tales import tale
 from pushedclerks.texts import machine_text, read_strikes, read_word, strikes_text, word_text
+from pushedclerks.weights import are_heavy, heavy_story, lightest_side, shows_heavy_story
 from pushedclerks.windows import window, window_answer, window_table
 from tests.small import GREATEST, LAST, NAMED, ODD, RING, all_answers, some_machines, words
 
@@ -42,6 +46,18 @@ CALLS = {
     "read_word": lambda machine: read_word(machine, ""),
     "read_strikes": lambda machine: read_strikes(machine, 1, ""),
     "tale": lambda machine: tale(machine, 1, (), ()),
+    "are_heavy": lambda machine: are_heavy(machine, (1,), 0, 1),
+    "lightest_side": lambda machine: lightest_side(machine, (1,), 0, 1),
+    "heavy_story": lambda machine: heavy_story(machine, (1,), 0, 1),
+    "shows_heavy_story": lambda machine: shows_heavy_story(machine, (1,), 0, 1, None),
+    "right_chances": lambda machine: right_chances(machine, 1, (0, 1), (), ()),
+    "mean_misses": lambda machine: mean_misses(machine, 1, (0, 1), (), ()),
+    "clears": lambda machine: clears(machine, ()),
+    "clearing_word": clearing_word,
+    "parted_pair": parted_pair,
+    "shows_parted_pair": lambda machine: shows_parted_pair(machine, None),
+    "cleared_by": lambda machine: cleared_by(machine, 1, (), ()),
+    "Desk": lambda machine: Desk(machine, 1),
 }
 
 

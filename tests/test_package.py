@@ -7,21 +7,26 @@ from pathlib import Path
 import unittest
 
 import pushedclerks
-from pushedclerks import benches, clerks, courses, lates, machines, tales, texts, windows
+from pushedclerks import (
+    benches, chances, clears, clerks, courses, desks, lates, machines, tales, texts, weights, windows,
+)
 from pushedclerks.benches import Bench
+from pushedclerks.chances import mean_misses, right_chances
+from pushedclerks.clears import cleared_by, clearing_word, clears as is_clear, parted_pair, shows_parted_pair
 from pushedclerks.clerks import are_enough, copies_needed, fewest_of_all, least_room, most_pushed
 from pushedclerks.courses import course, shows_story, story, wrong_votes
-from pushedclerks.errors import (
-    BadLetters, BadLine, BadMachine, BadNumber, BadState, BadStep, BadStrikes, BadText, ClerkError, Forgets, Remembers,
-)
+from pushedclerks.desks import Desk
 from pushedclerks.lates import forgets, late, late_word, never_forgets, shows_late_word, shows_never_forgets
 from pushedclerks.machines import answers, least_machine
 from pushedclerks.tales import tale
 from pushedclerks.texts import machine_text, read_machine, read_strikes, read_word, strikes_text, word_text
+from pushedclerks.weights import are_heavy, heavy_story, lightest_side, most_heavy, shows_heavy_story
 from pushedclerks.windows import window, window_answer, window_table
-from tests.small import CHAIN, LAST, NAMED, ODD, RING, some_machines
+from tests.small import CHAIN, LAST, NAMED, ODD, RING, outcome, some_machines
 
 FOLDER = Path(pushedclerks.__file__).parent
+# The lines for a desk, of which some are wrong.
+LINES = ("push 1 0", "push 1 1", "push 9 0", "push 0 9", "a", "b", "c", "back", "astray", "misses", "states", "pushes")
 LIBRARY = {"heapq", "math", "itertools", "collections"}
 INTERFACE = {
     machines: {"answers": ["machine", "state", "word"], "least_machine": ["machine"]},
@@ -61,6 +66,25 @@ INTERFACE = {
         "read_strikes": ["machine", "copies", "text"],
     },
     tales: {"tale": ["machine", "copies", "word", "strikes"]},
+    weights: {
+        "are_heavy": ["machine", "weights", "pushed", "room"],
+        "lightest_side": ["machine", "weights", "pushed", "room"],
+        "heavy_story": ["machine", "weights", "pushed", "room"],
+        "shows_heavy_story": ["machine", "weights", "pushed", "room", "value"],
+        "most_heavy": ["weights"],
+    },
+    chances: {
+        "right_chances": ["machine", "copies", "chance", "way", "word"],
+        "mean_misses": ["machine", "copies", "chance", "way", "word"],
+    },
+    clears: {
+        "clears": ["machine", "word"],
+        "clearing_word": ["machine"],
+        "parted_pair": ["machine"],
+        "shows_parted_pair": ["machine", "value"],
+        "cleared_by": ["machine", "copies", "word", "strikes"],
+    },
+    desks: {"Desk": ["machine", "copies"]},
 }
 # The methods of the classes, and their properties, without parameters here.
 METHODS = {
@@ -71,11 +95,17 @@ METHODS = {
         "astray": None,
         "misses": None,
     },
+    Desk: {"do": ["self", "line"], "word": ["self"], "pushes": ["self"]},
 }
-OF_A_MACHINE = (least_machine, late, forgets, late_word, never_forgets, window, window_table, machine_text)
+OF_A_MACHINE = (
+    least_machine, late, forgets, late_word, never_forgets, window, window_table, machine_text, clearing_word,
+    parted_pair,
+)
 # The text of LAST, that of two strikes, and such of which some line is wrong.
 TEXTS = ("0/0 1/0\n0/1 1/1\n", "0: 0>1\n1: 1>0\n", "0/0\n2/0\n", "", "\n", "0/0", "x\n", "aab", "ac", "b" * 4001)
-SHOWS = (shows_late_word, shows_never_forgets)
+SHOWS = (shows_late_word, shows_never_forgets, shows_parted_pair)
+OF_WEIGHTS = (are_heavy, lightest_side, heavy_story)
+BY_CHANCE = (right_chances, mean_misses)
 # Strikes, right and wrong ones, a list in the place of each of their tuples.
 STRIKES = (
     ((0, ((0, 1),)),), ((0, ((0, 1), (0, 1))),),
@@ -83,19 +113,18 @@ STRIKES = (
 )
 
 
-def outcome(call, *values):
-    """Give what a call returns, or the kind and the fields of the error that it raises."""
-    try:
-        return "returned", call(*values)
-    except ClerkError as error:
-        return type(error), vars(error)
-
-
 def at_work(machine, copies, copy, state, letter):
     """Give all that a bench tells behind a letter, a push and the letter once more."""
     bench = Bench(machine, copies)
     votes = (bench.read(letter), bench.push(copy, state), bench.read(letter))
     return votes, bench.states, bench.astray, bench.misses
+
+
+def led_by(machine, copies, line):
+    """Give all that a desk answers to lines, one of them twice, and what it tells then."""
+    desk = Desk(machine, copies)
+    told = [desk.do(each) for each in ("push 0 0", line, "a", line, "states", "astray", "misses")]
+    return told, desk.word(), desk.pushes()
 
 
 class Interface(unittest.TestCase):
@@ -133,91 +162,13 @@ class Interface(unittest.TestCase):
         self.assertEqual((RING, (1,)), (read_machine(text="1/0\n0/1\n"), read_word(text="b", machine=LAST)))
         self.assertEqual(((0, ((0, 1),)),), read_strikes(text="0: 0>1\n", copies=1, machine=LAST))
         self.assertEqual("misses 0\n", tale(strikes=(), word=(), copies=1, machine=LAST))
-
-
-class Errors(unittest.TestCase):
-    def test_the_leftmost_argument_first(self):
-        bad = (rows_of(7), rows_of(1))
-        self.assertEqual((BadMachine, {"part": "steps"}), outcome(answers, bad, -1, (9,)))
-        self.assertEqual((BadMachine, {"part": "steps"}), outcome(answers, bad, 0, (9,)))
-        self.assertEqual((BadMachine, {"part": "machine"}), outcome(answers, None, None, None))
-        self.assertEqual((BadState, {}), outcome(answers, LAST, 2, (9,)))
-        self.assertEqual((BadState, {}), outcome(answers, LAST, True, [0]))
-        self.assertEqual((BadState, {}), outcome(answers, LAST, -1, (0,) * 4001))
-        self.assertEqual((BadLetters, {}), outcome(answers, LAST, 1, (0,) * 4001))
-
-    def test_the_leftmost_argument_first_in_windows(self):
-        self.assertEqual((BadMachine, {"part": "machine"}), outcome(window_answer, (), ()))
-        self.assertEqual((BadMachine, {"part": "answers"}), outcome(window_answer, (rows_of(1), ((10,),)), (9,)))
-
-    def test_the_leftmost_argument_first_in_clerks(self):
-        for call in (copies_needed, most_pushed, least_room, fewest_of_all):
-            self.assertEqual((BadMachine, {"part": "steps"}), outcome(call, (rows_of(7), rows_of(7)), -1, 99))
-            self.assertEqual((BadMachine, {"part": "machine"}), outcome(call, None, None, None))
-            self.assertEqual((BadNumber, {}), outcome(call, LAST, -1, 99))
-        self.assertEqual((BadMachine, {"part": "machine"}), outcome(are_enough, LAST[:1], 0, -1, 0))
-
-    def test_the_leftmost_argument_first_in_courses(self):
-        for call in (course, wrong_votes, tale):
-            self.assertEqual((BadMachine, {"part": "machine"}), outcome(call, None, 0, (9,), None))
-            self.assertEqual((BadNumber, {}), outcome(call, LAST, 0, (9,), None))
-            self.assertEqual((BadNumber, {}), outcome(call, LAST, True, (0,), ((0, ()),)))
-            self.assertEqual((BadLetters, {}), outcome(call, LAST, 1, (9,), None))
-            self.assertEqual((BadLetters, {}), outcome(call, LAST, 1, (0,) * 4001, ((0, ()),)))
-            self.assertEqual((BadStrikes, {"index": None}), outcome(call, LAST, 1, (0,), None))
-            self.assertEqual((BadStrikes, {"index": 0}), outcome(call, LAST, 1, (0,), ((0, ()), (0, ()))))
-        self.assertEqual((BadMachine, {"part": "machine"}), outcome(story, None, 0, -1, 0))
-        self.assertEqual((BadMachine, {"part": "machine"}), outcome(shows_story, None, 0, -1, 0, 0))
-        self.assertEqual((BadNumber, {}), outcome(story, LAST, 0, -1, 0))
-        self.assertEqual((BadNumber, {}), outcome(shows_story, LAST, 0, -1, 0, 0))
-
-    def test_the_leftmost_argument_first_in_benches(self):
-        self.assertEqual((BadMachine, {"part": "machine"}), outcome(Bench, None, 0))
-        self.assertEqual((BadMachine, {"part": "answers"}), outcome(Bench, (rows_of(1), ((10,),)), True))
-        bench = Bench(RING, 2)
-        self.assertEqual((BadNumber, {}), outcome(bench.push, 2, 2))
-        self.assertEqual((BadState, {}), outcome(bench.push, 1, 2))
-        for _ in range(4000):
-            bench.read(0)
-        self.assertEqual((BadLetters, {}), outcome(bench.read, 1))
-        self.assertEqual((BadStep, {}), outcome(bench.read, 0))
-
-    def test_the_leftmost_argument_first_in_texts(self):
-        for call in (word_text, read_word):
-            self.assertEqual((BadMachine, {"part": "steps"}), outcome(call, (rows_of(7), rows_of(7)), None))
-        self.assertEqual((BadMachine, {"part": "answers"}), outcome(machine_text, (rows_of(1), ((10,),))))
-        self.assertEqual((BadText, {"place": 0}), outcome(read_word, LAST, None))
-        self.assertEqual((BadLetters, {}), outcome(word_text, LAST, None))
-        for call in (strikes_text, read_strikes):
-            self.assertEqual((BadMachine, {"part": "machine"}), outcome(call, None, 0, None))
-            self.assertEqual((BadNumber, {}), outcome(call, LAST, 0, None))
-        self.assertEqual((BadLine, {"line": 0}), outcome(read_strikes, LAST, 1, None))
-        self.assertEqual((BadLine, {"line": 0}), outcome(read_machine, None))
-        self.assertEqual((BadStrikes, {"index": None}), outcome(strikes_text, LAST, 1, None))
-
-    def test_remembers_behind_the_errors_of_the_arguments(self):
-        self.assertEqual((Remembers, {}), outcome(window_table, RING))
-        self.assertEqual((BadMachine, {"part": "answers"}), outcome(window_table, (RING[0], ((0,), (10,)))))
-        self.assertEqual((BadMachine, {"part": "answers"}), outcome(window_answer, (RING[0], ((0,), (10,))), (0,)))
-        self.assertEqual((Remembers, {}), outcome(window_answer, RING, (0,)))
-        for word in ((), (1,), None, [0], (0,) * 4001):
-            self.assertEqual((BadLetters, {}), outcome(window_answer, RING, word))
-
-    def test_of_one_argument_the_first_named(self):
-        self.assertEqual((BadMachine, {"part": "machine"}), outcome(late, (rows_of(7), ((10,),), 0)))
-        self.assertEqual((BadMachine, {"part": "steps"}), outcome(late, (rows_of(7), ((10,),))))
-        self.assertEqual((BadMachine, {"part": "answers"}), outcome(late, (rows_of(1), ((10,),))))
-
-    def test_forgets_behind_the_errors_of_the_arguments(self):
-        self.assertEqual((Forgets, {}), outcome(never_forgets, (rows_of(1), ((9,),))))
-        self.assertEqual((BadMachine, {"part": "answers"}), outcome(never_forgets, (rows_of(1), ((10,),))))
-        self.assertEqual((BadMachine, {"part": "steps"}), outcome(never_forgets, (rows_of(7), rows_of(7))))
-
-    def test_a_wrong_machine_whatever_the_value(self):
-        for shows in SHOWS:
-            for value in ODD + (None, ((), 1, (0,)), ((), 1, (0, 0), (0,))):
-                self.assertEqual((BadMachine, {"part": "machine"}), outcome(shows, (), value))
-                self.assertEqual((BadMachine, {"part": "answers"}), outcome(shows, (rows_of(1), ((True,),)), value))
+        self.assertEqual(3, lightest_side(room=1, pushed=1, weights=(3, 1, 1, 1), machine=LAST))
+        self.assertIs(True, shows_heavy_story(value=((0,), ()), room=1, pushed=0, weights=(3,), machine=LAST))
+        self.assertEqual((1, 2), mean_misses(word=(0,), way=(1,), chance=(1, 1), copies=1, machine=LAST))
+        self.assertEqual((True, True), (is_clear(word=(0,), machine=LAST), shows_parted_pair(value=None, machine=LAST)))
+        self.assertEqual((0, 1), cleared_by(strikes=((0, ((0, 1),)),), word=(0,), copies=1, machine=LAST))
+        desk = Desk(copies=1, machine=LAST)
+        self.assertEqual(("vote 0", (0,), ()), (desk.do(line="a"), desk.word(), desk.pushes()))
 
 
 class Arguments(unittest.TestCase):
@@ -231,8 +182,10 @@ class Arguments(unittest.TestCase):
                 yield answers, (machine, value, value)
                 yield answers, (machine, 0, value)
                 yield from self.later_calls(machine, value)
-            for text in TEXTS:
+            for text in TEXTS + LINES:
                 yield from self.later_calls(machine, text)
+            for value in ((3, 1, 1), (1, 3), (100, 100), [3, 1], [1, 3], (0, [1])):
+                yield from self.last_calls(machine, value)
             for strikes in STRIKES:
                 yield from self.later_calls(machine, strikes)
                 yield shows_story, (machine, 2, 1, 1, ((0,), strikes))
@@ -255,11 +208,27 @@ class Arguments(unittest.TestCase):
         for call in (strikes_text, read_strikes):
             yield call, (machine, value, ())
             yield call, (machine, 2, value)
-        for call in (course, wrong_votes, tale):
+        yield from self.last_calls(machine, value)
+        for call in (course, wrong_votes, tale, cleared_by):
             yield call, (machine, 2, (0, 0), value)
             yield call, (machine, 2, value, ((1, ((0, 0),)),))
         yield shows_story, (machine, 2, 1, 1, value)
         yield shows_story, (machine, 3, 1, 1, value)
+
+    def last_calls(self, machine, value):
+        for call in OF_WEIGHTS:
+            yield call, (machine, value, 1, 1)
+            yield call, (machine, (3, 1), value, 2)
+        yield shows_heavy_story, (machine, (3, 1), 1, 1, value)
+        yield shows_heavy_story, (machine, (3, 1), 1, 1, ((0,), value))
+        yield most_heavy, (value,)
+        for call in BY_CHANCE:
+            yield call, (machine, 2, value, (0,), (0,))
+            yield call, (machine, 2, (1, 3), value, (0, 0))
+            yield call, (machine, 2, (1, 3), (0,), value)
+        yield is_clear, (machine, value)
+        yield led_by, (machine, value, "a")
+        yield led_by, (machine, 2, value)
 
     def test_they_are_not_modified(self):
         for call, values in self.calls():
@@ -276,9 +245,10 @@ class Arguments(unittest.TestCase):
         first = [outcome(call, machine) for machine in many for call in OF_A_MACHINE]
         last = [outcome(call, machine) for machine in reversed(many) for call in reversed(OF_A_MACHINE)]
         self.assertEqual(first, last[::-1])
-        first = [outcome(story, machine, 4, 1, room) for machine in many for room in (1, 2, 3)]
-        last = [outcome(story, machine, 4, 1, room) for machine in reversed(many) for room in (3, 2, 1)]
-        self.assertEqual(first, last[::-1])
+        for call, copies in ((story, 4), (heavy_story, (2, 1, 1, 2)), (lightest_side, (1, 2, 3))):
+            first = [outcome(call, machine, copies, 1, room) for machine in many for room in (1, 2, 3)]
+            last = [outcome(call, machine, copies, 1, room) for machine in reversed(many) for room in (3, 2, 1)]
+            self.assertEqual(first, last[::-1])
 
     def test_only_true_and_false_are_shown(self):
         for machine in NAMED:
@@ -287,6 +257,7 @@ class Arguments(unittest.TestCase):
                     self.assertIs(bool, type(shows(machine, value)))
                 for copies in (2, 3):
                     self.assertIs(bool, type(shows_story(machine, copies, 1, 1, value)))
+                    self.assertIs(bool, type(shows_heavy_story(machine, (1,) * copies, 1, 1, value)))
 
 
 class Files(unittest.TestCase):
@@ -317,10 +288,6 @@ class Files(unittest.TestCase):
     def test_nothing_but_program_files(self):
         found = [path for path in FOLDER.iterdir() if path.suffix != ".py" and path.name != "__pycache__"]
         self.assertEqual([], found)
-
-
-def rows_of(states):
-    return ((0,),) * states
 
 
 if __name__ == "__main__":
